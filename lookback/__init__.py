@@ -1,0 +1,1 @@
+"""Lookback: looks at tables, and their changes led back."""

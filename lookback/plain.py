@@ -1,0 +1,44 @@
+"""What the checks of things of any kind share: words, whole numbers, tuples."""
+
+SIGNS = "abcdefghijklmnopqrstuvwxyz0123456789"
+LONGEST = 8
+
+
+def is_word(thing):
+    """Whether it is a text of one to eight small letters and figures."""
+    if not isinstance(thing, str) or not 1 <= len(thing) <= LONGEST:
+        return False
+    return all([sign in SIGNS for sign in thing])
+
+
+def is_whole(thing):
+    """Whether it is a whole number; Python counts truths among these, the document doesn't."""
+    return isinstance(thing, int) and not isinstance(thing, bool)
+
+
+def is_tuple(thing, least, most):
+    """Whether it is a tuple of at least and at most so many things."""
+    return isinstance(thing, tuple) and least <= len(thing) <= most
+
+
+def are_words(thing, least, most):
+    """Whether it is a tuple of so many unlike words."""
+    return is_tuple(thing, least, most) and all([is_word(word) for word in thing]) and are_unlike(thing)
+
+
+def are_unlike(things):
+    """Whether nothing stands twice among texts or tuples of texts."""
+    return len(set(things)) == len(things)
+
+
+def is_rising(things):
+    """Whether each of these texts or tuples of texts is more than the one ahead."""
+    return all([one < other for one, other in zip(things, things[1:])])
+
+
+def product(choices):
+    """All tuples with one of each choice; they rise where each choice does."""
+    found = [()]
+    for choice in choices:
+        found = [start + (value,) for start in found for value in choice]
+    return found
