@@ -165,7 +165,8 @@ class IsLook(Checks):
 
     def test_tests_of_no_form(self):
         for test in (("has", "name", "ann"), ("has", "name", "job"), ("", "name", "ann"),
-                     ("Is", "name", "ann"), ("is", "name"), ("is",), (), ("is", "name", "ann", "bob"), ("like", "name", "job", "town"), "is", ("is", ("name", "ann"))):
+                     ("Is", "name", "ann"), ("is", "name"), ("is",), (), ("is", "name", "ann", "bob"),
+                     ("like", "name", "job", "town"), "is", ("is", ("name", "ann"))):
             self.no(("rows", OF, (test,)))
             self.no(("rows", OF, (("is", "name", "ann"), test)))
 
