@@ -21,9 +21,9 @@ NODES = {
 }
 OWN = {
     "len", "range", "enumerate", "zip", "min", "max", "sum", "abs", "sorted", "reversed", "int", "str", "bool",
-    "bytes", "list", "tuple", "dict", "set", "isinstance", "ord", "repr", "any", "all", "divmod", "Exception",
+    "bytes", "list", "tuple", "dict", "set", "frozenset", "isinstance", "ord", "repr", "any", "all", "divmod", "Exception",
     "ValueError", "TypeError", "KeyError", "IndexError", "LookupError", "ZeroDivisionError", "ArithmeticError",
-    "OverflowError", "RuntimeError", "NotImplementedError", "StopIteration",
+    "OverflowError", "RuntimeError", "NotImplementedError", "AttributeError", "StopIteration",
 }
 NO_SUCH_WORDS = re.compile(
     r"\b(type|typing|typing_extensions|enum|Enum|IntEnum|StrEnum|Flag|IntFlag|Generic|Protocol|ABC|ABCMeta|namedtuple"
@@ -31,10 +31,17 @@ NO_SUCH_WORDS = re.compile(
 NO_SUCH_NAMES = {"register", "mro", "elements", "open", "input", "version_info", "with_traceback", "add_note"}
 
 
+def defined_at_top(tree):
+    """The defs, classes and plain values of a file's top."""
+    names = [node.name for node in tree.body if isinstance(node, (ast.FunctionDef, ast.ClassDef))]
+    return names + [node.targets[0].id for node in tree.body if isinstance(node, ast.Assign)]
+
+
 def given_names(tree):
-    """All names that a file binds: defs, classes, parameters, locals."""
+    """All names that a file binds: defs, classes, parameters, locals; methods may be called more freely."""
+    methods = [part for node in tree.body if isinstance(node, ast.ClassDef) for part in node.body]
     for node in ast.walk(tree):
-        if isinstance(node, (ast.FunctionDef, ast.ClassDef)):
+        if isinstance(node, (ast.FunctionDef, ast.ClassDef)) and node not in methods:
             yield node.name
         elif isinstance(node, ast.arg):
             yield node.arg
@@ -65,7 +72,6 @@ class Language(unittest.TestCase):
     def test_words(self):
         for path, text in self.texts.items():
             self.assertIsNone(NO_SUCH_WORDS.search(text), path)
-            self.assertNotIn("%", text, path)
 
     def test_forms(self):
         for path, tree in self.trees.items():
@@ -73,6 +79,7 @@ class Language(unittest.TestCase):
                 self.assertIn(node.__class__.__name__, NODES, (path, getattr(node, "lineno", None)))
                 if isinstance(node, ast.Constant):
                     self.assertIsInstance(node.value, (int, str, bytes, bool, type(None)), path)
+                    self.assertFalse(isinstance(node.value, str) and "%" in node.value, (path, node.lineno))
                 if isinstance(node, (ast.For, ast.While)):
                     self.assertEqual(node.orelse, [], (path, node.lineno))
                 if isinstance(node, ast.FunctionDef):
@@ -88,15 +95,13 @@ class Language(unittest.TestCase):
                     self.assertEqual(node.level, 0, path)
                     self.assertRegex(node.module, r"^lookback\.[a-z]+$", path)
                     source = self.trees[PACKAGE / (node.module.split(".")[1] + ".py")]
-                    here = [part.name for part in source.body if isinstance(part, (ast.FunctionDef, ast.ClassDef))]
                     for name in node.names:
-                        self.assertIn(name.name, here, path)
+                        self.assertIn(name.name, defined_at_top(source), path)
 
     def test_top(self):
         for path, tree in self.trees.items():
-            bound = [node.name for node in tree.body if isinstance(node, (ast.FunctionDef, ast.ClassDef))]
+            bound = defined_at_top(tree)
             bound += [name.name for node in tree.body if isinstance(node, ast.ImportFrom) for name in node.names]
-            bound += [node.targets[0].id for node in tree.body if isinstance(node, ast.Assign)]
             self.assertEqual(len(set(bound)), len(bound), path)
             self.assertTrue(ast.get_docstring(tree), path)
 
