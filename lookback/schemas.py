@@ -39,6 +39,13 @@ def table_of(schema, name):
     return [table for table in schema if table[0] == name][0]
 
 
+def table_if_named(schema, thing):
+    """The table that it, of any kind, is the name of, or None."""
+    if not is_word(thing) or thing not in [table[0] for table in schema]:
+        return None
+    return table_of(schema, thing)
+
+
 def rising_values(columns):
     """The rising values of each of these columns."""
     return [sorted(values) for column, values in columns]
@@ -59,5 +66,9 @@ def rows_with(schema, name, key):
     """The rising tuple of all rows with this key that a table may have."""
     if key not in keys_of(schema, name):
         return ()
-    table = table_of(schema, name)
+    return rows_beyond(table_of(schema, name), key)
+
+
+def rows_beyond(table, key):
+    """The rising tuple of all rows of a table that begin with a key that there may be."""
     return tuple([key + rest for rest in product(rising_values(table[1][table[2]:]))])

@@ -1,0 +1,90 @@
+"""Steps: looks taken apart into what is done one after another, each part once."""
+
+from lookback.looks import called_columns, columns_by_name, joined_columns
+
+
+def steps_of(schema, looks):
+    """The list of the steps of these looks, each behind what it is made of, and that of each look's own number.
+
+    A step is ("of", name), ("rows", number, tests), ("columns", number, places), ("join", number, number, places),
+    ("union", number, number) or ("gap", number, number): numbers are those of steps ahead, and cells are named by
+    their places. Called has no step, as its rows are those within.
+    """
+    known = columns_by_name(schema)
+    numbers = {}
+    own = [columns_and_number(known, numbers, look)[1] for look in looks]
+    return list(numbers), own
+
+
+def columns_and_number(known, numbers, look):
+    """The columns of a look and the number of its step, which is put behind the others if it is new."""
+    word = look[0]
+    if word == "of":
+        return known[look[1]], number_of(numbers, look)
+    columns, one = columns_and_number(known, numbers, look[1])
+    if word == "rows":
+        return columns, number_of(numbers, ("rows", one, tests_by_place(columns, look[2])))
+    if word == "columns":
+        return look[2], number_of(numbers, ("columns", one, places_of(columns, look[2])))
+    if word == "called":
+        return called_columns(columns, look[2]), one
+    others, other = columns_and_number(known, numbers, look[2])
+    if word == "join":
+        return joined_columns(columns, others), number_of(numbers, ("join", one, other, join_places(columns, others)))
+    return columns, number_of(numbers, (word, one, other))
+
+
+def number_of(numbers, step):
+    """The number of a step; the dict of them keeps the order in which they came."""
+    return numbers.setdefault(step, len(numbers))
+
+
+def places_of(columns, words):
+    """At which place of the columns each word stands."""
+    return tuple([columns.index(word) for word in words])
+
+
+def tests_by_place(columns, tests):
+    """The tests, columns named by their places."""
+    return tuple([test_by_place(columns, test) for test in tests])
+
+
+def test_by_place(columns, test):
+    """A test, columns named by their places."""
+    word, column, other = test
+    return (word, columns.index(column), other if word in ("is", "not") else columns.index(other))
+
+
+def join_places(one, other):
+    """Three tuples of places: of what both have in the one and in the other, of what the other has more in it."""
+    common = [column for column in one if column in other]
+    more = [column for column in other if column not in one]
+    return (places_of(one, common), places_of(other, common), places_of(other, more))
+
+
+def cut(row, places):
+    """The values of a row at these places."""
+    return tuple([row[place] for place in places])
+
+
+def meets_all(row, tests):
+    """Whether a row meets all tests by place."""
+    return all([meets(row, test) for test in tests])
+
+
+def meets(row, test):
+    """Whether a row meets a test by place."""
+    word, place, other = test
+    if word == "is":
+        return row[place] == other
+    if word == "not":
+        return row[place] != other
+    alike = row[place] == row[other]
+    return alike if word == "like" else not alike
+
+
+def parts_of_joined(row, places, many):
+    """The rows of the one look, with so many columns, and of the other of which a row of their join is made."""
+    in_one, in_other, more = places
+    cells = dict(zip(in_other + more, cut(row, in_one) + row[many:]))
+    return row[:many], tuple([cells[place] for place in range(len(cells))])
