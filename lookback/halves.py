@@ -17,11 +17,10 @@ def may(schema, filling, stays, decided, bound, look):
 
 def rows_from(least, schema, stands, decided, bound, look):
     """The rising tuple of the rows of a look of at least this level."""
-    steps, own = steps_of(schema, [look])
     by_name = decided_by_name(schema, decided)
     left = left_of(bound, cost_of_decided(stands, decided))
     tables = {table[0]: table_levels(stands[table[0]], by_name[table[0]], left) for table in schema}
-    found = levels_of(steps, tables)[own[0]]
+    found = levels_of(steps_of(schema, look), tables)[-1]
     return tuple(sorted([row for row, level in found.items() if level >= least]))
 
 

@@ -28,15 +28,10 @@ def afters(schema, filling, stays, name, key):
 
 
 def afters_among(table, stays, before, rows):
-    """The pairs (cost, after) of those of these rows, and None, that are let in the place of one."""
+    """The pairs (cost, after) of those of these rising rows, and None, that are let in the place of one."""
     let = [after for after in [None] + list(rows) if is_let(table, stays, before, after)]
-    return tuple(sorted([(cost_between(table, before, after), after) for after in let], key=rank))
-
-
-def rank(pair):
-    """By what pairs (cost, after) are ordered; no row is less than (), so None is first of like costs."""
-    cost, after = pair
-    return (cost, () if after is None else after)
+    # Sorted leaves what costs the same in its order, None first.
+    return tuple(sorted([(cost_between(table, before, after), after) for after in let], key=lambda pair: pair[0]))
 
 
 def is_let(table, stays, before, after):

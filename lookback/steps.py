@@ -3,17 +3,16 @@
 from lookback.looks import called_columns, columns_by_name, joined_columns
 
 
-def steps_of(schema, looks):
-    """The list of the steps of these looks, each behind what it is made of, and that of each look's own number.
+def steps_of(schema, look):
+    """The list of the steps of a look, each behind what it is made of, so that the look's own is the last.
 
     A step is ("of", name), ("rows", number, tests), ("columns", number, places), ("join", number, number, places),
     ("union", number, number) or ("gap", number, number): numbers are those of steps ahead, and cells are named by
     their places. Called has no step, as its rows are those within.
     """
-    known = columns_by_name(schema)
     numbers = {}
-    own = [columns_and_number(known, numbers, look)[1] for look in looks]
-    return list(numbers), own
+    columns_and_number(columns_by_name(schema), numbers, look)
+    return list(numbers)
 
 
 def columns_and_number(known, numbers, look):
@@ -83,8 +82,9 @@ def meets(row, test):
     return alike if word == "like" else not alike
 
 
-def parts_of_joined(row, places, many):
-    """The rows of the one look, with so many columns, and of the other of which a row of their join is made."""
+def joined_parts(row, places):
+    """The row of the one look and that of the other of which a row of their join is made."""
     in_one, in_other, more = places
+    many = len(row) - len(more)
     cells = dict(zip(in_other + more, cut(row, in_one) + row[many:]))
     return row[:many], tuple([cells[place] for place in range(len(cells))])

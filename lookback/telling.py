@@ -6,8 +6,7 @@ from lookback.steps import steps_of
 
 def told(schema, filling, look):
     """The rising tuple of the rows of a look, each once."""
-    steps, own = steps_of(schema, [look])
-    return tuple(sorted(levels_of(steps, tables_of(schema, filling))[own[0]]))
+    return tuple(sorted(levels_of(steps_of(schema, look), tables_of(schema, filling))[-1]))
 
 
 def tables_of(schema, filling):

@@ -74,6 +74,21 @@ class Chance:
                  for column in [""] + [column for column, values in columns[keys:]]]
         return tuple(sorted(pair for pair in pairs if self.random.random() < share))
 
+    def rules(self, filling, many):
+        """At most so many rules that hold in a filling."""
+        looks = [self.look(self.random.randint(2, 4))[0] for k in range(many)]
+        return tuple((f"r{k}", look) for k, look in enumerate(looks) if not records(self.schema, filling, look))
+
+    def ask(self, rows, others):
+        """An ask by which a look has the others' rows instead of its own, or some by chance, perhaps never."""
+        pick = self.random
+        drops, comes = sorted(set(rows) - set(others)), sorted(set(others) - set(rows))
+        if pick.random() < 0.3:
+            drops = [row for row in rows if pick.random() < 0.3]
+        if pick.random() < 0.3 and comes:
+            comes = [row for row in comes if pick.random() < 0.5]
+        return tuple(drops), tuple(comes)
+
     def look(self, depth):
         """A look of at most so deep, with its columns, tracked apart from the program."""
         pick = self.random

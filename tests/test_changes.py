@@ -4,8 +4,9 @@ import unittest
 
 from lookback.changes import back_of, between, changed, cost_of, is_change
 from lookback.fillings import is_filling, row_at
-from lookback.schemas import keys_of, rows_with
+from lookback.schemas import keys_of
 from chance import Chance
+from oracle import all_fillings
 from samples import EMPTY, FILLING, JUNK, SCHEMA, as_lists, shown, with_junk
 
 ANN, BOB, CID = FILLING[0]
@@ -16,15 +17,6 @@ COMES = ("towns", ("bath", "east"), None, ("bath", "east"))
 TOWN_GOES = ("towns", ("york", "west"), ("york", "west"), None)
 CHANGE = (STAYS, GOES, CID_STAYS, COMES, TOWN_GOES)
 FEW = (("a", (("k", ("p", "q")), ("v", ("x", "y"))), 1), ("b", (("k", ("p",)), ("v", ("x", "y"))), 1))
-
-
-def all_fillings(schema):
-    """Each filling of a small schema."""
-    tables = []
-    for name, columns, keys in schema:
-        choices = [(None,) + rows_with(schema, name, key) for key in keys_of(schema, name)]
-        tables.append([tuple(row for row in rows if row is not None) for rows in itertools.product(*choices)])
-    return list(itertools.product(*tables))
 
 
 class IsChange(unittest.TestCase):

@@ -31,6 +31,16 @@ NO_SUCH_WORDS = re.compile(
 NO_SUCH_NAMES = {"register", "mro", "elements", "open", "input", "version_info", "with_traceback", "add_note"}
 
 
+METHODS = {
+    "append", "clear", "copy", "count", "endswith", "extend", "find", "get", "index", "insert", "isalnum", "isalpha",
+    "isdigit", "islower", "isspace", "isupper", "items", "join", "keys", "ljust", "lower", "lstrip", "partition", "pop",
+    "remove", "replace", "reverse", "rfind", "rjust", "rpartition", "rsplit", "rstrip", "setdefault", "split",
+    "splitlines", "startswith", "strip", "update", "upper", "values", "zfill", "bit_length", "sort", "add", "discard",
+}
+SPOTS = {"zip", "enumerate", "reversed", "range", "items", "keys", "values"}
+WALKERS = {"list", "tuple", "dict", "sorted", "sum", "any", "all", "enumerate", "zip", "bytes", "min", "max", "join"}
+
+
 def defined_at_top(tree):
     """The defs, classes and plain values of a file's top."""
     names = [node.name for node in tree.body if isinstance(node, (ast.FunctionDef, ast.ClassDef))]
@@ -47,6 +57,23 @@ def given_names(tree):
             yield node.arg
         elif isinstance(node, ast.Name) and not isinstance(node.ctx, ast.Load):
             yield node.id
+
+
+def called_name(node):
+    """What is called, where it is a plain name or a method; else None."""
+    if not isinstance(node, ast.Call):
+        return None
+    return node.func.attr if isinstance(node.func, ast.Attribute) else getattr(node.func, "id", None)
+
+
+def is_set(node):
+    return isinstance(node, (ast.Set, ast.SetComp)) or called_name(node) == "set"
+
+
+def draws(trees):
+    """The dict from each file's name to the names of those that it draws from."""
+    return {path.stem: [node.module.split(".")[1] for node in tree.body if isinstance(node, ast.ImportFrom)]
+            for path, tree in trees.items()}
 
 
 class Language(unittest.TestCase):
@@ -104,6 +131,47 @@ class Language(unittest.TestCase):
             bound += [name.name for node in tree.body if isinstance(node, ast.ImportFrom) for name in node.names]
             self.assertEqual(len(set(bound)), len(bound), path)
             self.assertTrue(ast.get_docstring(tree), path)
+
+    def test_no_two_files_draw_from_one_another(self):
+        left = draws(self.trees)
+        while left:
+            free = [name for name, others in left.items() if not any(other in left for other in others)]
+            self.assertTrue(free, left)
+            left = {name: others for name, others in left.items() if name not in free}
+
+    def test_methods_and_values(self):
+        methods, values = set(), set()
+        for tree in self.trees.values():
+            for node in ast.walk(tree):
+                if isinstance(node, ast.ClassDef):
+                    methods |= {part.name for part in node.body if isinstance(part, ast.FunctionDef)}
+                elif isinstance(node, ast.Attribute) and isinstance(node.ctx, ast.Store):
+                    self.assertIsInstance(node.value, ast.Name, node.lineno)
+                    values.add(node.attr)
+        self.assertEqual(methods & values, set())
+        of_python = {name for thing in ("", 0, [], {}, set(), b"") for name in dir(thing)}
+        self.assertEqual((values - {"count", "index", "title", "find", "get", "join", "copy"}) & of_python, set())
+        for path, tree in self.trees.items():
+            called = [node.func for node in ast.walk(tree) if isinstance(node, ast.Call)]
+            for node in ast.walk(tree):
+                if isinstance(node, ast.Attribute):
+                    known = METHODS | methods if node in called else values
+                    self.assertIn(node.attr, known, (path, node.lineno))
+
+    def test_walked_at_once_and_sets(self):
+        for path, tree in self.trees.items():
+            parents = {child: node for node in ast.walk(tree) for child in ast.iter_child_nodes(node)}
+            for node in ast.walk(tree):
+                parent = parents.get(node)
+                if called_name(node) in SPOTS:
+                    walked = isinstance(parent, (ast.For, ast.comprehension)) and parent.iter is node
+                    walked = walked or called_name(parent) in WALKERS
+                    self.assertTrue(walked, (path, node.lineno))
+                if is_set(node):
+                    while isinstance(parent, ast.BinOp):
+                        parent = parents[parent]
+                    plain = called_name(parent) in ("sorted", "len") and not parent.keywords
+                    self.assertTrue(plain or isinstance(parent, ast.Compare), (path, node.lineno))
 
     def test_names(self):
         for path, tree in self.trees.items():
