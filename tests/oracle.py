@@ -1,5 +1,6 @@
 """Ways and papers as the document words them, gone through one by one, without what the program keeps or skips."""
 
+import functools
 import itertools
 
 from lookback.changes import between, cost_of
@@ -10,6 +11,12 @@ from lookback.stands import afters
 from lookback.telling import told
 
 
+# The same is asked of these for each ask again.
+told_again = functools.lru_cache(maxsize=20000)(told)
+afters_again = functools.lru_cache(maxsize=20000)(afters)
+
+
+@functools.lru_cache(maxsize=50)
 def all_fillings(schema):
     """Each filling of a small schema."""
     tables = []
@@ -36,9 +43,9 @@ def all_ways(schema, filling, rules, stays, look, ask):
     wanted = rows_asked(schema, filling, look, ask)
     found = []
     for other in all_fillings(schema):
-        if told(schema, other, look) == wanted and broken(schema, other, rules) is None:
+        if told_again(schema, other, look) == wanted and broken(schema, other, rules) is None:
             change = between(schema, filling, other)
-            if all(after in [pair[1] for pair in afters(schema, filling, stays, name, key)]
+            if all(after in [pair[1] for pair in afters_again(schema, filling, stays, name, key)]
                    for name, key, before, after in change):
                 found.append((cost_of(schema, change), change))
     return sorted(found, key=lambda pair: pair[0])
@@ -53,12 +60,12 @@ def is_right_paper(schema, filling, rules, stays, look, ask, bound, change, pape
         return False
     args = (schema, filling, stays)
     wanted = rows_asked(schema, filling, look, ask)
+    costs = {place: dict((after, cost) for cost, after in afters_again(*args, *place))
+             for place in [(name, key) for name, columns, keys in schema for key in keys_of(schema, name)]}
     todo = [(0, ())]
     while todo:
         number, decided = todo.pop()
         node = paper[number]
-        costs = {place: dict((after, cost) for cost, after in afters(*args, *place))
-                 for place in [(name, key) for name, columns, keys in schema for key in keys_of(schema, name)]}
         left = None if bound is None else bound - sum(costs[name, key][after] for name, key, after in decided)
         if node[0] == "turn":
             place = node[1:3]
@@ -71,7 +78,7 @@ def is_right_paper(schema, filling, rules, stays, look, ask, bound, change, pape
             for after, other in node[3]:
                 todo.append((other, tuple(sorted(decided + (place + (after,),), key=lambda part: part[:2]))))
         elif node[0] == "way":
-            done = tuple((name, key, afters(*args, name, key)[0][1], after) for name, key, after in decided)
+            done = tuple((name, key, afters_again(*args, name, key)[0][1], after) for name, key, after in decided)
             if change is None or tuple(part for part in done if part[2] != part[3]) != change:
                 return False
         elif node[0] == "row":

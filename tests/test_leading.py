@@ -99,9 +99,9 @@ class AllFillings(Led):
         for look in LOOKS:
             self.assertIs(is_look(FEW, look), True)
             results = sorted({told(FEW, filling, look) for filling in fillings})
-            for at, filling in enumerate(fillings[::5]):
+            for filling in fillings:
                 rows = told(FEW, filling, look)
-                for wanted in results[at % 2::2]:
+                for wanted in results:
                     ask = (tuple(row for row in rows if row not in wanted),
                            tuple(row for row in wanted if row not in rows))
                     kind = self.check(FEW, filling, (), (), look, ask)
