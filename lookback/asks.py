@@ -2,7 +2,7 @@
 
 from lookback.changes import changed, is_change
 from lookback.looks import columns_of
-from lookback.plain import is_rising, is_tuple, is_word
+from lookback.plain import is_rising, is_tuple, is_tuple_of_words
 from lookback.rules import broken
 from lookback.schemas import table_of
 from lookback.stands import is_let
@@ -26,7 +26,7 @@ def are_rows_of_words(thing, many):
 
 def is_row_of_words(thing, many):
     """Whether it, of any kind, is a tuple of so many words."""
-    return is_tuple(thing, many, many) and all([is_word(cell) for cell in thing])
+    return is_tuple_of_words(thing) and len(thing) == many
 
 
 def as_asked(schema, filling, look, ask):

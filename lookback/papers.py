@@ -4,7 +4,7 @@ from lookback.asks import is_way
 from lookback.changes import cost_of
 from lookback.halves import cost_at
 from lookback.levels import SURE
-from lookback.plain import is_tuple, is_whole, is_word
+from lookback.plain import is_same, is_tuple, is_tuple_of_words, is_whole, is_word
 from lookback.scenes import Scene, decided_change, has_sure, spot_behind, that_can_be_at, top_spot
 
 
@@ -61,7 +61,7 @@ def spot_of_branch(scene, branch):
 def is_turn(scene, spot, node):
     """Whether a tuple of four is a turn at what isn't decided yet, its branches all that can be."""
     word, name, key, branches = node
-    if not is_text(word, "turn") or not is_word(name) or name not in scene.stands:
+    if not is_same(word, "turn") or not is_word(name) or name not in scene.stands:
         return False
     if not is_tuple_of_words(key) or key not in scene.stands[name] or key in spot.decided.get(name, {}):
         return False
@@ -90,12 +90,12 @@ def are_free(named, number, many, branches):
 def is_end(scene, spot, change, node):
     """Whether it, of any kind, is an end of one of the three kinds."""
     if is_tuple(node, 1, 1):
-        return is_text(node[0], "way") and change is not None and decided_change(scene, spot) == change
+        return is_same(node[0], "way") and change is not None and decided_change(scene, spot) == change
     if not is_tuple(node, 2, 2):
         return False
-    if is_text(node[0], "row"):
+    if is_same(node[0], "row"):
         return is_tuple_of_words(node[1]) and is_wrong_row(scene, spot, node[1])
-    return is_text(node[0], "rule") and is_whole(node[1]) and is_broken(scene, spot, node[1])
+    return is_same(node[0], "rule") and is_whole(node[1]) and is_broken(scene, spot, node[1])
 
 
 def is_wrong_row(scene, spot, row):
@@ -109,13 +109,3 @@ def is_broken(scene, spot, number):
     if not 0 <= number < len(scene.plans) - 1:
         return False
     return has_sure(spot.sights[number + 1].levels[-1])
-
-
-def is_text(thing, word):
-    """Whether it, of any kind, is this text."""
-    return isinstance(thing, str) and thing == word
-
-
-def is_tuple_of_words(thing):
-    """Whether it, of any kind, is a tuple of words, however many."""
-    return isinstance(thing, tuple) and all([is_word(cell) for cell in thing])

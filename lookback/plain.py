@@ -21,9 +21,24 @@ def is_tuple(thing, least, most):
     return isinstance(thing, tuple) and least <= len(thing) <= most
 
 
+def is_tuple_of_words(thing):
+    """Whether it, of any kind, is a tuple of words, however many, alike or not."""
+    return isinstance(thing, tuple) and all([is_word(word) for word in thing])
+
+
+def is_same(thing, plain):
+    """Whether it, of any kind, is this text, whole number or tuple of such; Python would take True for 1."""
+    if isinstance(plain, tuple):
+        many = len(plain)
+        return is_tuple(thing, many, many) and all([is_same(part, other) for part, other in zip(thing, plain)])
+    if isinstance(plain, str):
+        return isinstance(thing, str) and thing == plain
+    return is_whole(thing) and thing == plain
+
+
 def are_words(thing, least, most):
     """Whether it is a tuple of so many unlike words."""
-    return is_tuple(thing, least, most) and all([is_word(word) for word in thing]) and are_unlike(thing)
+    return is_tuple(thing, least, most) and is_tuple_of_words(thing) and are_unlike(thing)
 
 
 def are_unlike(things):

@@ -2,6 +2,7 @@
 
 import random
 
+from lookback.changes import between
 from lookback.schemas import keys_of, rows_with
 
 PAIRED = ("join", "union", "gap")
@@ -46,6 +47,31 @@ def records_of_form(look, ones, others):
     return once
 
 
+def counted_records(schema, filling, look):
+    """The pairs (record, count) of a look, gone through one by one as the document words it."""
+    word = look[0]
+    if word == "of":
+        return [(row, 1) for row in table_records(schema, filling, look[1])]
+    ones = counted_records(schema, filling, look[1])
+    if word not in PAIRED:
+        return summed([(part, many) for row, many in ones for part in records_of_form(look, [row], [])])
+    others = counted_records(schema, filling, look[2])
+    if word == "join":
+        return [(row, one * other) for left, one in ones for right, other in others
+                for row in records_of_form(look, [left], [right])]
+    if word == "union":
+        return summed(ones + others)
+    return [(row, many) for row, many in ones if row not in [other for other, count in others]]
+
+
+def summed(pairs):
+    once = []
+    for row, many in pairs:
+        at = [other for other, count in once].index(row) if row in [other for other, count in once] else len(once)
+        once[at:at + 1] = [(row, many + (once[at][1] if at < len(once) else 0))]
+    return once
+
+
 class Chance:
     """Schemas, fillings and looks by a source of chance that is the same each time."""
 
@@ -60,6 +86,7 @@ class Chance:
                             for column in pick.sample(["k", "l", "m", "n"], many))
             tables.append((name, columns, pick.randint(1, many)))
         self.schema = tuple(tables)
+        self.words = ()
 
     def filling(self):
         rows = []
@@ -79,6 +106,21 @@ class Chance:
         looks = [self.look(self.random.randint(2, 4))[0] for k in range(many)]
         return tuple((f"r{k}", look) for k, look in enumerate(looks) if not records(self.schema, filling, look))
 
+    def change(self, filling):
+        """The change from a filling to another one, which has much of it."""
+        other = self.filling()
+        parts = between(self.schema, filling, other)
+        return tuple(part for part in parts if self.random.random() < 0.5)
+
+    def book(self, many, depth):
+        """A book of so many looks; from then on looks are made of its words, too, as of tables."""
+        pairs = []
+        for word in ("w0", "a", "w1", "z", "w2", "k", "w3", "w4")[:many]:
+            look, columns = self.look(self.random.randint(1, depth))
+            pairs.append((word, look))
+            self.words += ((word, tuple((column, ()) for column in columns), 1),)
+        return tuple(pairs)
+
     def ask(self, rows, others):
         """An ask by which a look has the others' rows instead of its own, or some by chance, perhaps never."""
         pick = self.random
@@ -94,7 +136,7 @@ class Chance:
         pick = self.random
         word = pick.choice(WORDS) if depth > 1 else "of"
         if word == "of":
-            name, columns, keys = pick.choice(self.schema)
+            name, columns, keys = pick.choice(self.schema + self.words)
             return ("of", name), tuple(column for column, values in columns)
         if word in ("union", "gap"):
             return self.paired(word, depth)

@@ -1,6 +1,6 @@
 import unittest
 
-from lookback.plain import are_unlike, is_rising, is_tuple, is_whole, is_word, product
+from lookback.plain import are_unlike, is_rising, is_same, is_tuple, is_tuple_of_words, is_whole, is_word, product
 from samples import JUNK, NO_WORDS, shown
 
 
@@ -30,6 +30,23 @@ class Plain(unittest.TestCase):
         self.assertIs(is_tuple((1, 2), 3, 3), False)
         self.assertIs(is_tuple((1, 2), 0, 1), False)
         self.assertIs(is_tuple([1, 2], 1, 2), False)
+
+    def test_tuples_of_words(self):
+        for thing in ((), ("a",), ("a", "a", "b9")):
+            self.assertIs(is_tuple_of_words(thing), True)
+        for thing in (["a"], "a", ("a", "B"), ("a", None), (("a",),), (True,)):
+            self.assertIs(is_tuple_of_words(thing), False)
+
+    def test_same(self):
+        plain = ("a", 1, ("b", (), 0))
+        self.assertIs(is_same(("a", 1, ("b", (), 0)), plain), True)
+        for thing in (("a", True, ("b", (), 0)), ("a", 1, ("b", (), False)), ["a", 1, ("b", (), 0)],
+                      ("a", 1, ["b", (), 0]), ("a", 1, ("b", [], 0)), ("a", 1), plain + (1,), ("a", "1", plain[2]),
+                      ("b", 1, plain[2]), ("a", 2, plain[2]), (b"a", 1, plain[2]), ("a", 1, ("b", (), None))):
+            self.assertIs(is_same(thing, plain), False, thing)
+        for thing in JUNK:
+            self.assertIs(is_same(thing, plain), False, shown(thing))
+            self.assertIs(is_same(thing, "of"), False, shown(thing))
 
     def test_rising_and_unlike(self):
         self.assertIs(is_rising(()), True)
