@@ -44,7 +44,8 @@ class Counts(unittest.TestCase):
 
     def test_columns(self):
         self.tells(JOBS, (("cook",), 2), (("none",), 1))
-        self.tells(("columns", OF, ("job", "town")), (("cook", "bath"), 1), (("cook", "york"), 1), (("none", "york"), 1))
+        self.tells(("columns", OF, ("job", "town")), (("cook", "bath"), 1), (("cook", "york"), 1),
+                   (("none", "york"), 1))
         self.tells(("columns", ("columns", OF, ("job", "town")), ("job",)), (("cook",), 2), (("none",), 1))
 
     def test_join(self):

@@ -204,7 +204,8 @@ class ShowsReason(Shown):
         words = ("of", "rows", "called", "columns", "join", "union", "gap", "folk", "towns", "")
         for look, row, reason in self.CASES:
             self.yes(look, row, reason)
-            for other in replaced(reason, lambda part: [word for word in words if isinstance(part, str) and word != part]):
+            for other in replaced(reason, lambda part: [
+                    word for word in words if isinstance(part, str) and word != part]):
                 self.no(look, row, other)
 
     def test_another_row(self):
@@ -252,7 +253,8 @@ class ShowsReason(Shown):
         row = ANN + ("west",)
         self.no(self.JOIN, row, ("join", town("bath", "west"), FOLK_ANN))
         self.no(("join", TOWN, OF), ("bath", "west", "ann", "cook"), ("join", FOLK_ANN, town("bath", "west")))
-        self.no(("join", JOBS, PLACES), ("cook", "york"), ("join", ("columns", BOB, FOLK_BOB), ("columns", ANN, FOLK_ANN)))
+        self.no(("join", JOBS, PLACES), ("cook", "york"),
+                ("join", ("columns", BOB, FOLK_BOB), ("columns", ANN, FOLK_ANN)))
 
     def test_a_row_that_is_not_of_the_tables(self):
         dan = ("bob", "bath", "cook")
@@ -283,6 +285,7 @@ class UsedBy(unittest.TestCase):
                 (FOLK_ANN, (("folk", ANN),)),
                 (("rows", ("called", ("gap", FOLK_BOB))), (("folk", BOB),)),
                 (("columns", ANN, FOLK_ANN), (("folk", ANN),)),
+                (("columns", ("of", "rows", "join"), FOLK_ANN), (("folk", ANN),)),
                 (("union", 0, FOLK_ANN), (("folk", ANN),)),
                 (("union", 1, FOLK_ANN), (("folk", ANN),)),
                 (("join", FOLK_ANN, FOLK_ANN), (("folk", ANN),)),
