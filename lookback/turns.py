@@ -3,7 +3,7 @@
 from lookback.levels import MAY, NOW, SURE
 from lookback.scenes import that_can_be_at
 from lookback.shifts import rows_by_cut
-from lookback.steps import cut, joined_parts
+from lookback.steps import joined_parts
 
 
 class Hanging:

@@ -6,7 +6,7 @@ from lookback.looks import is_look
 from lookback.reading import read_look
 from lookback.showing import show_look
 from chance import Chance
-from samples import JUNK, NO_WORDS, SCHEMA, shown
+from samples import JUNK, NO_WORDS, shown
 from test_looks import SEVEN, paired_deep, rows_deep
 
 OF = ("of", "folk")
