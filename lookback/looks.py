@@ -1,6 +1,6 @@
 """Looks: their seven forms, and the columns that each has."""
 
-from lookback.plain import are_unlike, are_words, is_tuple, is_word
+from lookback.plain import are_unlike, are_words, found_again, is_tuple, is_word
 
 DEEPEST = 8
 MOST_TESTS = 4
@@ -91,22 +91,29 @@ def is_pair(thing):
 
 def columns_of(schema, look):
     """The tuple of the columns of a look, however deep it is."""
-    return columns_by(columns_by_name(schema), look)
+    return columns_by(columns_by_name(schema), [], look)
 
 
-def columns_by(known, look):
+def columns_by(known, seen, look):
     """The tuple of the columns of a look at what is known."""
     word = look[0]
     if word == "of":
         return known[look[1]]
     if word == "columns":
         return look[2]
-    one = columns_by(known, look[1])
-    if word == "called":
-        return called_columns(one, look[2])
     if word == "join":
-        return joined_columns(one, columns_by(known, look[2]))
-    return one
+        return columns_of_join(known, seen, look)
+    one = columns_by(known, seen, look[1])
+    return called_columns(one, look[2]) if word == "called" else one
+
+
+def columns_of_join(known, seen, look):
+    """As columns_by, of a join; what was seen is told again, and not gone through."""
+    found = found_again(seen, look)
+    if found is None:
+        found = joined_columns(columns_by(known, seen, look[1]), columns_by(known, seen, look[2]))
+        seen.append((look, found))
+    return found
 
 
 def called_columns(columns, pairs):

@@ -51,6 +51,18 @@ def is_rising(things):
     return all([one < other for one, other in zip(things, things[1:])])
 
 
+def found_again(seen, look):
+    """What was found of a look, of pairs (look, found) of those seen, or None.
+
+    A look put together of a book holds the same ones within one another, so often that going through each of them
+    anew would have no end. Python takes what is the very same thing for alike without going through it.
+    """
+    for other, found in seen:
+        if other == look:
+            return found
+    return None
+
+
 def product(choices):
     """All tuples with one of each choice; they rise where each choice does."""
     found = [()]

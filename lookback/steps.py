@@ -1,6 +1,7 @@
 """Steps: looks taken apart into what is done one after another, each part once."""
 
-from lookback.looks import called_columns, columns_by_name, joined_columns
+from lookback.looks import PAIRED, called_columns, columns_by_name, joined_columns
+from lookback.plain import found_again
 
 
 def steps_of(schema, look):
@@ -11,26 +12,36 @@ def steps_of(schema, look):
     their places. Called has no step, as its rows are those within.
     """
     numbers = {}
-    columns_and_number(columns_by_name(schema), numbers, look)
+    columns_and_number(columns_by_name(schema), numbers, [], look)
     return list(numbers)
 
 
-def columns_and_number(known, numbers, look):
+def columns_and_number(known, numbers, seen, look):
     """The columns of a look and the number of its step, which is put behind the others if it is new."""
     word = look[0]
     if word == "of":
         return known[look[1]], number_of(numbers, look)
-    columns, one = columns_and_number(known, numbers, look[1])
+    if word in PAIRED:
+        return paired_columns_and_number(known, numbers, seen, look)
+    columns, one = columns_and_number(known, numbers, seen, look[1])
     if word == "rows":
         return columns, number_of(numbers, ("rows", one, tests_by_place(columns, look[2])))
     if word == "columns":
         return look[2], number_of(numbers, ("columns", one, places_of(columns, look[2])))
-    if word == "called":
-        return called_columns(columns, look[2]), one
-    others, other = columns_and_number(known, numbers, look[2])
-    if word == "join":
-        return joined_columns(columns, others), number_of(numbers, ("join", one, other, join_places(columns, others)))
-    return columns, number_of(numbers, (word, one, other))
+    return called_columns(columns, look[2]), one
+
+
+def paired_columns_and_number(known, numbers, seen, look):
+    """As columns_and_number, of join, union or gap; what was seen is told again, and not gone through."""
+    found = found_again(seen, look)
+    if found is None:
+        word = look[0]
+        columns, one = columns_and_number(known, numbers, seen, look[1])
+        others, other = columns_and_number(known, numbers, seen, look[2])
+        step = ("join", one, other, join_places(columns, others)) if word == "join" else (word, one, other)
+        found = (joined_columns(columns, others) if word == "join" else columns, number_of(numbers, step))
+        seen.append((look, found))
+    return found
 
 
 def number_of(numbers, step):

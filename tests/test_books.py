@@ -4,6 +4,7 @@ import unittest
 from lookback.asks import is_way
 from lookback.books import is_book, unfolded
 from lookback.counting import counts
+from lookback.keeping import Keeper
 from lookback.leading import lead_back
 from lookback.looks import columns_of, is_look
 from lookback.papers import shows_two, shows_way
@@ -174,6 +175,32 @@ class Unfolded(unittest.TestCase):
         answer = lead_back(*case)
         self.assertEqual(answer[0], "two")
         self.assertIs(shows_two(*case, *answer[1:]), True)
+
+    def test_eight_looks_that_use_the_one_ahead_most_often(self):
+        # The look put together holds the table's name more often than anybody could go through.
+        for words, many in ((("union",), 2 ** 56), (("join",), 1), (("join", "join", "join", "gap"), None)):
+            book, leaf = (), OF
+            for word in "abcdefgh":
+                look = leaf
+                for step in range(7):
+                    look = (words[step % len(words)], look, look)
+                book += ((word, look),)
+                leaf = ("of", word)
+            self.assertIs(is_book(SCHEMA, book), True)
+            look = unfolded(book, ("of", "h"))
+            self.assertEqual(columns_of(SCHEMA, look), ("name", "town", "job"))
+            rows = FILLING[0] if many else ()
+            self.assertEqual(told(SCHEMA, FILLING, look), rows)
+            self.assertEqual(counts(SCHEMA, FILLING, look), tuple((row, many) for row in rows))
+            change = (("folk", ("bob",), BOB, None),)
+            if many:
+                case = (SCHEMA, FILLING, (), (), look, ((BOB,), ()))
+                answer = lead_back(*case)
+                self.assertEqual(answer[:2], ("way", change))
+                self.assertIs(shows_way(*case, *answer[1:]), True)
+            keeper = Keeper(SCHEMA, FILLING, (), book)
+            self.assertEqual(keeper.rows("h"), rows)
+            self.assertEqual(sorted(keeper.change(change)), list("abcdefgh") if many else [])
 
     def test_many_as_if_words_were_tables(self):
         deep = some = 0

@@ -1,6 +1,7 @@
 import unittest
 
-from lookback.plain import are_unlike, is_rising, is_same, is_tuple, is_tuple_of_words, is_whole, is_word, product
+from lookback.plain import are_unlike, found_again, is_rising, is_same, is_tuple, is_tuple_of_words
+from lookback.plain import is_whole, is_word, product
 from samples import JUNK, NO_WORDS, shown
 
 
@@ -57,6 +58,12 @@ class Plain(unittest.TestCase):
         self.assertIs(is_rising(("a", "c", "b")), False)
         self.assertIs(are_unlike(("b", "a")), True)
         self.assertIs(are_unlike(("b", "a", "b")), False)
+
+    def test_found_again(self):
+        one, other = ("union", ("of", "a"), ("of", "b")), ("union", ("of", "a"), ("of", "c"))
+        self.assertIsNone(found_again([], one))
+        self.assertIsNone(found_again([(one, 1)], other))
+        self.assertEqual(found_again([(one, 1), (other, 2)], ("union", ("of", "a"), ("of", "c"))), 2)
 
     def test_product(self):
         self.assertEqual(product([]), [()])
